@@ -1,0 +1,1 @@
+"""Mirrorsums: numbers as sums of few mirrored ones."""

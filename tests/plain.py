@@ -1,0 +1,133 @@
+"""Plain ways to the same answers, things that are refused, and checks that tests share."""
+
+import unittest
+
+from mirrorsums import errors
+
+REFUSALS = (
+    errors.NoBase, errors.NoNumber, errors.NoMirror, errors.NoPlace,
+    errors.NoWay, errors.NoText, errors.NoCommand,
+)
+
+SEVERAL_BASES = (2, 3, 4, 7, 8, 10, 12, 16, 27, 35, 36)
+ALL_BASES = range(2, 37)
+GREATEST = 10 ** 40
+
+
+def value(row, base):
+    return sum(figure * base ** place for place, figure in enumerate(reversed(row)))
+
+
+def plain_figures(number, base):
+    row = [number % base]
+    while number >= base:
+        number //= base
+        row.insert(0, number % base)
+    return row
+
+
+def plain_mirrored(number, base):
+    row = plain_figures(number, base)
+    return row == list(reversed(row))
+
+
+def mirrored_through(bound, base):
+    """All mirrored numbers from 0 to a bound, by going through them."""
+    return [number for number in range(bound + 1) if plain_mirrored(number, base)]
+
+
+def folded(front, base, odd):
+    row = plain_figures(front, base)
+    return value(row + list(reversed(row[:-1] if odd else row)), base)
+
+
+def many_folded(number, base, odd):
+    """How many numbers from 1 on, folded, are at most a number: by halving."""
+    # A number of half as many figures, and one more, is too great when it is folded.
+    low, high = 0, base ** (len(plain_figures(number, base)) // 2 + 1)
+    while high - low > 1:
+        middle = (low + high) // 2
+        if folded(middle, base, odd) <= number:
+            low = middle
+        else:
+            high = middle
+    return low
+
+
+def plain_many(number, base):
+    """How many mirrored numbers there are from 1 to a number, great ones too."""
+    return many_folded(number, base, True) + many_folded(number, base, False)
+
+
+def great_numbers(base):
+    """Numbers to 10 ** 40: ends of lengths, beside mirrored ones, and others."""
+    found = {GREATEST - 1, GREATEST, 3 ** 83, 7 ** 47, 98765432109876543210, 10 ** 20, 12 ** 21 + 5}
+    length = 1
+    while base ** length <= GREATEST:
+        if length % 7 < 2 or base ** (length + 2) > GREATEST:
+            found.update(base ** length + step for step in (-2, -1, 0, 1, 2))
+            # A middle figure that is the greatest, or 0, makes one more or one less carry.
+            for front in (base ** length - 2, base ** length, 2 * base ** length - 1):
+                for odd in (True, False):
+                    found.update(folded(front, base, odd) + step for step in (-1, 0, 1))
+        length += 1
+    return sorted(number for number in found if 0 <= number <= GREATEST)
+
+
+def deep(depth, wrap):
+    thing = wrap(None)
+    for _ in range(depth):
+        thing = wrap(thing)
+    return thing
+
+
+def deep_things():
+    return [
+        ("deep list", deep(20000, lambda thing: [thing])),
+        ("deep tuple", deep(20000, lambda thing: (thing,))),
+        ("deep list and tuple", deep(10000, lambda thing: [(thing, 1)])),
+        ("list with a deep one", [1, deep(20000, lambda thing: [thing]), 1]),
+        ("tuple with a deep one", (10, deep(20000, lambda thing: (thing,)))),
+    ]
+
+
+def odd_things():
+    """Things, with a name each, that are neither numbers nor lists of figures."""
+    return [
+        ("None", None), ("True", True), ("False", False),
+        ("empty text", ""), ("text", "10"), ("one sign", "1"), ("bytes", b"1"),
+        ("empty list", []), ("list of a text", ["1"]), ("list of None", [None]), ("list of a list", [[1]]),
+        ("empty tuple", ()), ("tuple", (1,)), ("tuple of two", (1, 1)),
+        ("empty dict", {}), ("dict", {1: 1}), ("set", {1}), ("range", range(1, 3)),
+        ("function", plain_figures), ("class", int), ("object", object()),
+    ] + deep_things()
+
+
+def wrong_bases():
+    numbers = [1, 0, 37, 38, -1, -2, -10, 100, 10 ** 40, -(10 ** 40)]
+    return [(str(number), number) for number in numbers] + odd_things() + [("list of a base", [10])]
+
+
+class Asking(unittest.TestCase):
+    """Checks of what is told and what is refused."""
+
+    def refused(self, refusal, call, *given):
+        with self.assertRaises(ValueError) as caught:
+            call(*given)
+        error = caught.exception
+        self.assertIsInstance(error, errors.MirrorError)
+        self.assertIsInstance(error, refusal)
+        for other in REFUSALS:
+            if other is not refusal:
+                self.assertNotIsInstance(error, other)
+
+    def whole(self, wanted, told):
+        """The very number, and an int that is no truth."""
+        self.assertIs(type(told), int)
+        self.assertEqual(wanted, told)
+
+    def row(self, wanted, told):
+        """The very list, of ints that are no truths."""
+        self.assertIs(type(told), list)
+        self.assertEqual(wanted, told)
+        self.assertEqual({int}, {type(item) for item in told} | {int})
