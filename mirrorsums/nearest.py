@@ -6,7 +6,7 @@ mirrored number; so all here is reckoned by fronts, without going through the nu
 """
 
 from mirrorsums.errors import NoMirror
-from mirrorsums.figures import check_base, figures, is_mirrored, number_of
+from mirrorsums.figures import check_base, figures, is_mirrored
 
 
 def power(base, many):
@@ -29,8 +29,13 @@ def front_of(number, length, base):
 
 def from_front(front, length, base):
     """The mirrored number of so many figures that has this front."""
-    row = figures(front, base)
-    return number_of(row + row[:length // 2][::-1], base)
+    mirrored = front
+    # The middle figure of an odd length stands there once.
+    left = front if length & 1 == 0 else front // base
+    while left > 0:
+        left, figure = divmod(left, base)
+        mirrored = mirrored * base + figure
+    return mirrored
 
 
 def folded(number, base):
@@ -98,3 +103,16 @@ def place_of(thing, base):
     length = len(figures(thing, base))
     behind = front_of(thing, length, base) - least_front(length, base)
     return many_to_length(length - 1, base) + behind + 1
+
+
+def mirrored_to(bound, base):
+    """All mirrored numbers from 1 to a bound, rising: a new list."""
+    told = []
+    for length in range(1, len(figures(bound, base)) + 1):
+        least = least_front(length, base)
+        for front in range(least, least * base):
+            mirrored = from_front(front, length, base)
+            if mirrored > bound:
+                return told
+            told.append(mirrored)
+    return told

@@ -1,6 +1,7 @@
 """Plain ways to the same answers, things that are refused, and checks that tests share."""
 
 import unittest
+from functools import lru_cache
 
 from mirrorsums import errors
 
@@ -57,6 +58,79 @@ def many_folded(number, base, odd):
 def plain_many(number, base):
     """How many mirrored numbers there are from 1 to a number, great ones too."""
     return many_folded(number, base, True) + many_folded(number, base, False)
+
+
+def mirrored_folded(bound, base):
+    """All mirrored numbers from 1 to a bound, rising, for bounds that are too great to go through."""
+    return sorted(
+        folded(front, base, odd) for odd in (True, False) for front in range(1, many_folded(bound, base, odd) + 1)
+    )
+
+
+def falling_lists(parts, many, number):
+    """All lists of so many of these falling parts, none greater than the one ahead, that come to a number."""
+    if many == 0:
+        return [[]] if number == 0 else []
+    return [
+        [part] + others
+        for at, part in enumerate(parts) if part <= number
+        for others in falling_lists(parts[at:], many - 1, number - part)
+    ]
+
+
+def plain_ways(number, base, many):
+    """All ways by so many, the greatest list first, by going through the lists."""
+    return sorted(falling_lists(mirrored_through(number, base)[:0:-1], many, number), reverse=True)
+
+
+def plain_counter(bound, base):
+    """A function that counts ways of numbers to a bound by so many, all parts at most a greatest one."""
+    rising = mirrored_through(bound, base)[1:]
+
+    @lru_cache(None)
+    def count(number, many, at):
+        if many == 0 or at == 0:
+            return 1 if number == many == 0 else 0
+        part = rising[at - 1]
+        return count(number, many, at - 1) + (count(number - part, many - 1, at) if part <= number else 0)
+
+    return lambda number, many, most: count(number, many, len([part for part in rising if part <= most]))
+
+
+def plain_place(way, count):
+    """How many ways by as many are greater lists, with a function that counts ways."""
+    place = 0
+    most = left = sum(way)
+    for at, part in enumerate(way):
+        # As long as the parts ahead are the same, a greater one here makes a greater list.
+        place += count(left, len(way) - at, most) - count(left, len(way) - at, part)
+        most = part
+        left -= part
+    return place
+
+
+def plain_needs(bound, base):
+    """How many mirrored ones each number from 0 to a bound needs, one number behind the other."""
+    rising = mirrored_through(bound, base)[1:]
+    needs = [0]
+    usable = 0
+    for number in range(1, bound + 1):
+        while usable < len(rising) and rising[usable] <= number:
+            usable += 1
+        needs.append(1 + min([needs[number - part] for part in rising[:usable]]))
+    return needs
+
+
+def plain_sums(bound, base, greatest):
+    """For each so many from 0 to the greatest, a number whose bits tell what comes by just so many."""
+    parts = mirrored_folded(bound, base)
+    sums = [1]
+    for _ in range(greatest):
+        bits = 0
+        for part in parts:
+            bits |= sums[-1] << part
+        sums.append(bits & ((1 << (bound + 1)) - 1))
+    return sums
 
 
 def great_numbers(base):
@@ -131,3 +205,10 @@ class Asking(unittest.TestCase):
         self.assertIs(type(told), list)
         self.assertEqual(wanted, told)
         self.assertEqual({int}, {type(item) for item in told} | {int})
+
+    def rows(self, wanted, told):
+        """The very list of lists, of ints that are no truths."""
+        self.assertIs(type(told), list)
+        self.assertEqual(len(wanted), len(told))
+        for wanted_row, told_row in zip(wanted, told):
+            self.row(wanted_row, told_row)
