@@ -1,5 +1,6 @@
 """Plain ways to the same answers, things that are refused, and checks that tests share."""
 
+import time
 import unittest
 from functools import lru_cache
 
@@ -13,6 +14,8 @@ REFUSALS = (
 SEVERAL_BASES = (2, 3, 4, 7, 8, 10, 12, 16, 27, 35, 36)
 ALL_BASES = range(2, 37)
 GREATEST = 10 ** 40
+# A single answer within the limits takes a small part of this, one that goes astray far more.
+MOST_SECONDS = 10
 
 
 def value(row, base):
@@ -182,8 +185,32 @@ def wrong_bases():
     return [(str(number), number) for number in numbers] + odd_things() + [("list of a base", [10])]
 
 
+def wrong_lists_of_bases():
+    """Things, with a name each, that are no list of one to five unlike bases, rising."""
+    falling_or_alike = [
+        [3, 2], [10, 2], [36, 2], [2, 10, 9], [2, 3, 4, 6, 5], [5, 4, 3, 2], [3, 2, 4],
+        [2, 2], [10, 10], [36, 36], [2, 3, 3], [2, 2, 3], [2, 3, 4, 5, 5], [10] * 5,
+    ]
+    too_many = [[2, 3, 4, 5, 6, 7], [2, 3, 5, 7, 11, 13], [10] * 6, list(ALL_BASES), [2] * 10000]
+    tuples = [(10,), (2, 10), (2, 3, 4, 5, 6), ((2, 10),)]
+    others = [2, 10, 36, 1, 37, "2 10", "10", b"\x02\x0a", {2: 10}, {2, 10}, range(2, 5), iter([2, 10])]
+    within = [
+        thing for name, wrong in wrong_bases()
+        for thing in ([wrong], [2, wrong], [wrong, 36], [2, wrong, 36], [2, 3, 4, 5, wrong])
+    ]
+    lists = falling_or_alike + too_many + tuples + others + within
+    return [(f"wrong list {at}", thing) for at, thing in enumerate(lists)] + odd_things()
+
+
 class Asking(unittest.TestCase):
     """Checks of what is told and what is refused."""
+
+    def soon(self, call, *given):
+        """What a call tells, in reasonable time."""
+        start = time.process_time()
+        told = call(*given)
+        self.assertLess(time.process_time() - start, MOST_SECONDS)
+        return told
 
     def refused(self, refusal, call, *given):
         with self.assertRaises(ValueError) as caught:

@@ -1,11 +1,13 @@
-"""Point 2: mirrored numbers, ways by two, the fewest, all ways and tables tell one thing."""
+"""Point 2: mirrored numbers, ways by two, the fewest, all ways, tables, bases and papers tell one thing."""
 
 import unittest
 
 from mirrorsums.few import a_few
 from mirrorsums.fewest import fewest
 from mirrorsums.figures import is_mirrored
-from mirrorsums.nearest import many_to, mirrored_at, place_of
+from mirrorsums.nearest import at_least, at_most, many_to, mirrored_at, place_of
+from mirrorsums.papers import is_paper, paper_of
+from mirrorsums.several import in_all, next_in_all
 from mirrorsums.tables import hardest, how_many, table
 from mirrorsums.two import by_two, first_by_two, many_by_two
 from mirrorsums.ways import all_ways, many_ways, way_at, way_place
@@ -98,6 +100,67 @@ class OneThing(Asking):
         for base in SEVERAL_BASES:
             for number in (0, 1, 2, 11, 12, 13, 40):
                 self.whole(sum(many_ways(number, base, many) for many in range(number + 1)), all_ways(number, base))
+
+    def test_mirrored_in_one_base_are_the_mirrored_numbers(self):
+        for base in ALL_BASES:
+            bound = 1500
+            told = in_all(bound, [base])
+            self.row([number for number in range(bound + 1) if is_mirrored(number, base)], told)
+            self.row([mirrored_at(place, base) for place in range(many_to(bound, base) + 1)], told)
+            for place, number in enumerate(told):
+                self.whole(place, place_of(number, base))
+                if place > 0:
+                    self.whole(number, next_in_all(told[place - 1], bound, [base]))
+            for number in range(0, bound, 7):
+                self.whole(at_least(number + 1, base), next_in_all(number, 10 ** 5, [base]))
+                self.whole(at_most(number, base), in_all(number, [base])[-1])
+
+    def test_mirrored_in_one_base_to_the_limit(self):
+        bound = 10 ** 5
+        for base in ALL_BASES:
+            told = in_all(bound, [base])
+            self.whole(many_to(bound, base) + 1, len(told))
+            self.whole(at_most(bound, base), told[-1])
+            self.assertTrue(all(is_mirrored(number, base) for number in told))
+
+    def test_mirrored_in_all_are_mirrored_in_each(self):
+        for bases in ([2, 10], [3, 5, 7], [8, 9, 10, 11], [2, 3, 4, 5, 6], [9, 16, 25, 35, 36]):
+            wanted = [number for number in range(3000) if all(is_mirrored(number, base) for base in bases)]
+            self.row(wanted, in_all(2999, bases))
+            for part in range(1, len(bases)):
+                fewer = set(in_all(2999, bases[:part])) & set(in_all(2999, bases[part:]))
+                self.row(sorted(fewer), in_all(2999, bases))
+
+    def papered(self, number, base):
+        """Whether there is a paper just where a number is not mirrored and has no way by two."""
+        paper = paper_of(number, base)
+        wanted = not is_mirrored(number, base) and first_by_two(number, base) is None
+        self.assertEqual(wanted, paper is not None)
+        self.assertEqual(wanted, len(fewest(number, base)) > 2)
+        if wanted:
+            self.whole(0, many_by_two(number, base))
+            self.assertEqual(in_all(number // 2, [base]), [mirrored for mirrored, place in paper])
+            self.assertIs(is_paper(number, base, paper), True)
+        return wanted
+
+    def test_a_paper_is_where_three_or_more_are_needed(self):
+        for base in ALL_BASES:
+            bound = 700
+            papers = [number for number in range(1, bound + 1) if self.papered(number, base)]
+            self.row([number for number, need in enumerate(table(bound, base)) if need > 2], papers)
+            self.whole(len(papers), sum(how_many(bound, base, many) for many in range(3, 9)))
+
+    def test_papers_to_the_limit(self):
+        for base in ALL_BASES:
+            found = [self.papered(number, base) for number in range(10 ** 5 - 60, 10 ** 5 + 1)]
+            self.assertIn(True, found)
+            self.assertIn(False, found)
+
+    def test_no_paper_where_there_are_ways_by_one_or_two(self):
+        for base in SEVERAL_BASES:
+            for number in range(1, 200):
+                ways = many_ways(number, base, 1) + many_ways(number, base, 2)
+                self.assertEqual(ways == 0, paper_of(number, base) is not None)
 
 
 if __name__ == "__main__":
