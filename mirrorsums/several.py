@@ -24,7 +24,7 @@ def next_in_all(number, bound, bases):
     check_bases(bases)
     tried = number + 1
     while tried <= bound:
-        # The base that offers the greatest has no mirrored number ahead of it, so none of all bases is there.
+        # One of the bases has no mirrored number from the tried one up to this, so none there is in all.
         following = max([at_least(tried, base) for base in bases])
         if following == tried:
             return tried
